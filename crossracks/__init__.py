@@ -1,0 +1,1 @@
+"""Crossracks: a hall that joins callers to ends by three rows of racks."""
