@@ -7,11 +7,13 @@ FIGURES = "0123456789"
 MOSTS = (12, 12, 24, 12, 12)
 
 
+# To Python a truth is an int; here it is no whole number.
+def is_number(thing):
+    return isinstance(thing, int) and not isinstance(thing, bool)
+
+
 def is_whole(thing, least, most):
-    # To Python a truth is an int; here it is no whole number.
-    if not isinstance(thing, int) or isinstance(thing, bool):
-        return False
-    return least <= thing <= most
+    return is_number(thing) and least <= thing <= most
 
 
 def rises(numbers):
@@ -32,11 +34,15 @@ def place_out(hall, end):
     return divmod(end, hall[4])
 
 
+def are_ends(hall, things):
+    last = hall[3] * hall[4] - 1
+    return all([is_whole(thing, 0, last) for thing in things])
+
+
 def is_rising_ends(hall, thing):
     if not isinstance(thing, tuple) or len(thing) == 0:
         return False
-    last = hall[3] * hall[4] - 1
-    return all([is_whole(end, 0, last) for end in thing]) and rises(thing)
+    return are_ends(hall, thing) and rises(thing)
 
 
 def is_call(hall, thing):

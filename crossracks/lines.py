@@ -1,4 +1,4 @@
-"""The lines that calls hold: told by bits, and whether each is held by one call alone."""
+"""The lines that calls hold: told by bits, and whether each is held by one call alone; racks amid left open."""
 
 from crossracks.halls import place_in, racks_of, rises
 
@@ -12,6 +12,11 @@ def bits_of(places):
 
 def bit_list(bits):
     return [place for place in range(bits.bit_length()) if (bits >> place) & 1 == 1]
+
+
+# Bits beyond the racks amid of the hall shut nothing.
+def left_open(hall, shut):
+    return [k for k in range(hall[2]) if (shut >> k) & 1 == 0]
 
 
 def in_bits(hall, calls):

@@ -1,5 +1,6 @@
 """Halls, calls and wrong things that the tests have in common."""
 
+import itertools
 import random
 
 HALLS = [
@@ -53,3 +54,91 @@ def many_right_calls():
     for hall in HALLS:
         found.extend((hall, right_calls(hall, seed)) for seed in range(12))
     return found
+
+
+class Alike:
+    """A thing that claims to be like any other."""
+
+    __hash__ = None
+
+    def __eq__(self, other):
+        return True
+
+    def __ne__(self, other):
+        return False
+
+
+def lines_of(hall, caller, ends, k):
+    """The lines that a call of this caller and these ends holds by k, counted by hand."""
+    return {("in", caller // hall[1], k)} | {("out", k, end // hall[4]) for end in ends}
+
+
+def held_lines_of(hall, calls):
+    """All lines that calls hold, as a list: a line held by two comes twice."""
+    return [line for call in calls for line in lines_of(hall, *call)]
+
+
+def ways_by_hand(hall, calls, caller, ends, shut=0):
+    held = set(held_lines_of(hall, calls))
+    return [k for k in range(hall[2])
+            if shut // 2 ** k % 2 == 0 and not held & lines_of(hall, caller, ends, k)]
+
+
+def shuts_of(hall):
+    """Shut racks amid by bits: none, some, all."""
+    amid = hall[2]
+    every = 2 ** amid - 1
+    return sorted({0, 1, 2 ** (amid - 1), every // 3, every - every // 3, every // 2, every - 1, every})
+
+
+def asks_of(hall, seed, many=4):
+    """Tuples (caller, ends), the ends in any order, idle or not."""
+    chance = random.Random(f"asks {hall} {seed}")
+    ins, callers, amid, outs, ends = hall
+    found = []
+    for turn in range(many):
+        asked = chance.sample(range(outs * ends), min(outs * ends, chance.randint(1, 4)))
+        found.append((chance.randrange(ins * callers), asked))
+    return found
+
+
+def many_asks():
+    """Tuples (hall, calls, caller, ends): right calls and what may be asked for beside them."""
+    return [(hall, calls, caller, ends)
+            for seed, (hall, calls) in enumerate(many_right_calls())
+            for caller, ends in asks_of(hall, seed)]
+
+
+def narrow_calls(hall, seed):
+    """Right calls of one out rack each."""
+    ins, callers, amid, outs, ends = hall
+    chance = random.Random(f"narrow {hall} {seed}")
+    waiting = set(range(outs * ends))
+    held = set()
+    calls = []
+    for caller in range(ins * callers):
+        rack = chance.randrange(outs)
+        idle = sorted(waiting & set(range(rack * ends, (rack + 1) * ends)))
+        k = chance.randrange(amid)
+        asked = sorted(chance.sample(idle, min(len(idle), chance.randint(1, 2))))
+        needed = lines_of(hall, caller, asked, k)
+        if asked and not needed & held:
+            held |= needed
+            waiting -= set(asked)
+            calls.append((caller, tuple(asked), k))
+    return calls
+
+
+def right_lists(hall, most_ends):
+    """Every list of right calls of a small hall, each call of at most so many ends."""
+    ins, callers, amid, outs, ends = hall
+    asks = [asked for many in range(1, most_ends + 1)
+            for asked in itertools.combinations(range(outs * ends), many)]
+    found = [([], frozenset(), frozenset())]
+    for caller in range(ins * callers):
+        for calls, held, busy in list(found):
+            for asked, k in itertools.product(asks, range(amid)):
+                needed = lines_of(hall, caller, asked, k)
+                if not needed & held and not busy & set(asked):
+                    found.append((calls + [(caller, asked, k)], held | needed, busy | set(asked)))
+    return [calls for calls, held, busy in found]

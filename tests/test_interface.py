@@ -17,6 +17,33 @@ SIGNATURES = {
     "bars": {
         "bars_of": "(hall, call)", "read_calls": "(hall, text)", "shown_calls": "(calls)",
     },
+    "ways": {
+        "is_caller": "(hall, thing)", "is_ends": "(hall, thing)", "holders": "(hall, calls, caller, ends)",
+        "ways": "(hall, calls, caller, ends, shut=0)", "least_ended": "(hall, calls, caller, ends, shut=0)",
+    },
+    "counts": {
+        "loads": "(hall, calls)", "count_of": "(hall, calls, caller, ends, shut=0)",
+    },
+    "rules": {
+        "Rule": "()", "Fullest": "()", "Emptiest": "()", "Round": "(start=0)", "Told": "(listed)",
+        "rule_of": "(word)",
+    },
+    "calling": {
+        "call_of": "(calls, caller)", "holder_of": "(calls, end)",
+        "joined": "(hall, calls, caller, ends, rule=None, shut=0)", "ended": "(calls, caller)",
+    },
+    "chains": {
+        "chain_out": "(hall, calls, rack, a, b)", "chain_in": "(hall, calls, rack, a, b)",
+        "moves_of": "(calls, chain, a, b)", "moved": "(hall, calls, moves)",
+    },
+}
+# The methods of classes, as they stand behind the object itself.
+METHODS = {
+    "rules": {
+        "Rule": {"choose": "(self, hall, calls, free)"}, "Fullest": {"choose": "(self, hall, calls, free)"},
+        "Emptiest": {"choose": "(self, hall, calls, free)"}, "Round": {"choose": "(self, hall, calls, free)"},
+        "Told": {"choose": "(self, hall, calls, free)"},
+    },
 }
 
 
@@ -27,6 +54,15 @@ class Interface(unittest.TestCase):
             for name, arguments in names.items():
                 with self.subTest(file=file, name=name):
                     self.assertEqual(str(inspect.signature(getattr(module, name))), arguments)
+
+    def test_each_method_has_its_arguments(self):
+        for file, classes in METHODS.items():
+            module = importlib.import_module(f"crossracks.{file}")
+            for name, methods in classes.items():
+                for method, arguments in methods.items():
+                    with self.subTest(file=file, name=name, method=method):
+                        found = getattr(getattr(module, name), method)
+                        self.assertEqual(str(inspect.signature(found)), arguments)
 
 
 if __name__ == "__main__":

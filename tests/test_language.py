@@ -56,6 +56,24 @@ def own_attributes():
     return methods, values
 
 
+def with_parents(tree):
+    """Tuples (node, parent) of all nodes of a tree."""
+    return [(child, node) for node in ast.walk(tree) for child in ast.iter_child_nodes(node)]
+
+
+def called_name(node):
+    """The plain name that a node calls, or the text without signs."""
+    return getattr(node.func, "id", "") if isinstance(node, ast.Call) else ""
+
+
+def is_walked_at_once(node, parent):
+    if isinstance(parent, (ast.For, ast.comprehension)):
+        return node is parent.iter
+    if called_name(parent) in ("list", "tuple", "dict", "sorted", "sum", "any", "all", "enumerate"):
+        return node is parent.args[0]
+    return called_name(parent) == "zip" or called_name(parent) in ("min", "max") and parent.args == [node]
+
+
 class Texts(unittest.TestCase):
     def test_files_and_names(self):  # L1, L14
         self.assertTrue((PACKAGE / "__init__.py").is_file())
@@ -192,6 +210,41 @@ class Trees(unittest.TestCase):
                 sides = [node.left] + node.comparators
                 self.assertTrue(any(isinstance(one, ast.Constant) and one.value in (None, True, False)
                                     for one in sides), where)
+
+    def test_no_local_is_called_like_a_class_or_an_import(self):  # L15
+        for name, tree in trees():
+            taken = {node.name for node in tree.body if isinstance(node, ast.ClassDef)}
+            taken |= {one.name for node in tree.body if isinstance(node, ast.ImportFrom) for one in node.names}
+            for node in ast.walk(tree):
+                if isinstance(node, ast.arg) or isinstance(node, ast.Name) and isinstance(node.ctx, ast.Store):
+                    bound = getattr(node, "id", None) or node.arg
+                    self.assertNotIn(bound, taken, f"{name}:{node.lineno}")
+
+    def test_classes_are_not_handed_on(self):  # L18
+        classes = {node.name for where, node in nodes(ast.ClassDef)}
+        for name, tree in trees():
+            for node, parent in with_parents(tree):
+                if isinstance(node, ast.Name) and node.id in classes:
+                    fine = isinstance(parent, (ast.ClassDef, ast.ExceptHandler))
+                    fine = fine or isinstance(parent, ast.Call) and node is parent.func
+                    fine = fine or called_name(parent) == "isinstance" and node is parent.args[1]
+                    self.assertTrue(fine, f"{name}:{node.lineno}")
+
+    def test_keywords(self):  # L22
+        allowed = {"sorted": {"key", "reverse"}, "min": {"key", "default"}, "max": {"key", "default"},
+                   "sum": {"start"}, "enumerate": {"start"}, "zip": {"strict"}}
+        for where, node in nodes(ast.Call):
+            called = called_name(node)
+            if called in BUILTINS or isinstance(node.func, ast.Attribute) and node.func.attr in METHODS:
+                self.assertLessEqual({one.arg for one in node.keywords}, allowed.get(called, set()), where)
+
+    def test_walked_at_once(self):  # L23
+        for name, tree in trees():
+            for node, parent in with_parents(tree):
+                if isinstance(node, ast.Call):
+                    walked = called_name(node) in ("zip", "enumerate", "reversed", "range")
+                    if walked or getattr(node.func, "attr", "") in ("items", "keys", "values"):
+                        self.assertTrue(is_walked_at_once(node, parent), f"{name}:{node.lineno}")
 
     def test_sets_stand_on_the_spot(self):  # L24
         for name, tree in trees():
