@@ -112,7 +112,7 @@ class WrittenCalls(unittest.TestCase):  # 1.8
         self.refuse("04>0,7@2", "4>00,7@2", "4>0,07@2", "4>0,7@02", "00>0@0", "004>0,7@2")
 
     def test_more_than_three_figures(self):
-        self.refuse("0004>0,7@2", "1000>0@2", "4>0007@2", "4>7@0002", "4>7@" + "2" * 3000)
+        self.refuse("0004>0,7@2", "1000>0@2", "4>0007@2", "4>7@0002", "4>7@" + "2" * 3000, "4>7@" + "2" * 9000)
 
     def test_blanks_too_many_or_too_few(self):
         self.refuse(

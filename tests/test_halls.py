@@ -217,7 +217,7 @@ class WrittenHalls(unittest.TestCase):  # 1.8
             self.refuse(text)
 
     def test_more_than_three_figures(self):
-        for text in ("0002x3 4 5x1", "1000x3 4 5x1", "2x3 0004 5x1", "2x3 4 5x" + "1" * 3000):
+        for text in ("0002x3 4 5x1", "1000x3 4 5x1", "2x3 0004 5x1", "2x3 4 5x" + "1" * 3000, "2x3 4 5x" + "1" * 9000):
             self.refuse(text)
 
     def test_blanks_too_many_or_too_few(self):
