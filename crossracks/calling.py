@@ -41,6 +41,10 @@ def refuse_busy(calls, caller, ends):
             raise Busy(who)
 
 
+def refuse_engaged(hall, calls, caller, ends, shut):
+    raise Engaged(holders(hall, calls, caller, ends), least_ended(hall, calls, caller, ends, shut))
+
+
 def with_call(calls, caller, ends, k):
     # The callers are unlike, so the calls are sorted by these alone.
     return sorted(calls + [(caller, tuple(sorted(ends)), k)])
@@ -51,7 +55,7 @@ def joined(hall, calls, caller, ends, rule=None, shut=0):
     refuse_busy(calls, caller, ends)
     free = ways(hall, calls, caller, ends, shut)
     if free == []:
-        raise Engaged(holders(hall, calls, caller, ends), least_ended(hall, calls, caller, ends, shut))
+        refuse_engaged(hall, calls, caller, ends, shut)
     hunter = Rule() if rule is None else rule
     k = hunter.choose(hall, calls, free)
     return with_call(calls, caller, ends, k)

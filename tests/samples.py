@@ -1,5 +1,7 @@
 """Halls, calls and wrong things that the tests have in common."""
 
+import collections
+import copy
 import itertools
 import random
 
@@ -142,3 +144,101 @@ def right_lists(hall, most_ends):
                 if not needed & held and not busy & set(asked):
                     found.append((calls + [(caller, asked, k)], held | needed, busy | set(asked)))
     return [calls for calls, held, busy in found]
+
+
+def is_idle(calls, caller, ends):
+    """Whether no call has the caller or one of the ends."""
+    return all(call[0] != caller and not set(call[1]) & set(ends) for call in calls)
+
+
+def holder_by_hand(hall, calls, line):
+    """The call that holds a line, ("in", i, k) or ("out", k, j), or None."""
+    for caller, ends, k in calls:
+        if line == ("in", caller // hall[1], k) or line in [("out", k, end // hall[4]) for end in ends]:
+            return (caller, ends, k)
+    return None
+
+
+def chain_by_hand(hall, calls, at_out, rack, a, b):
+    """The chain from an out rack or an in rack, walked line by line, or None."""
+    found = []
+    while True:
+        call = holder_by_hand(hall, calls, ("out", a, rack) if at_out else ("in", rack, b))
+        if call is None or call[0] in found:
+            return found
+        goals = {end // hall[4] for end in call[1]}
+        if len(goals) > 1:
+            return None
+        found.append(call[0])
+        rack = call[0] // hall[1] if at_out else min(goals)
+        at_out = not at_out
+
+
+def is_right_by_hand(hall, calls):
+    """Whether no line and no end comes twice."""
+    lines = held_lines_of(hall, calls)
+    ends = [end for call in calls for end in call[1]]
+    return len(lines) == len(set(lines)) and len(ends) == len(set(ends))
+
+
+def crowded_calls(hall, seed, most_ends):
+    """Right calls of at most so many ends each, by whichever racks amid are left, until few more are."""
+    ins, callers, amid, outs, ends = hall
+    chance = random.Random(f"crowded {hall} {seed} {most_ends}")
+    waiting = list(range(outs * ends))
+    chance.shuffle(waiting)
+    held = set()
+    calls = []
+    for caller in chance.sample(range(ins * callers), ins * callers):
+        asked = tuple(sorted(waiting[:chance.randint(1, most_ends)]))
+        for k in chance.sample(range(amid), amid):
+            needed = lines_of(hall, caller, asked, k)
+            if asked and not needed & held and chance.random() < 0.95:
+                held |= needed
+                waiting = waiting[len(asked):]
+                calls.append((caller, asked, k))
+                break
+    return sorted(calls)
+
+
+def many_pairs():
+    """Lists of pairs: none, one, alike ones, rings, stars, whole grids, many of few racks and of all."""
+    grid = list(itertools.product(range(4), range(3)))
+    ring = [(i, j % 6) for i in range(6) for j in (i, i + 1)]
+    star = [(3, j) for j in range(9)]
+    found = [
+        [], [(0, 0)], [(31, 31)], [(0, 31), (31, 0)], [(5, 2)] * 2, [(5, 2)] * 7, [(1, 1)] * 64, grid, grid * 3, ring,
+        ring[:-1], star, [(j, i) for i, j in star], [(i, i) for i in range(32)], [(i, 31 - i) for i in range(32)] * 6,
+        list(itertools.product(range(14), range(14, 28))),
+    ]
+    for seed in range(60):
+        chance = random.Random(f"pairs {seed}")
+        ins, outs = chance.choice((1, 2, 4, 8, 32)), chance.choice((1, 3, 5, 32))
+        many = chance.choice((2, 5, 12, 30, 75, 200))
+        found.append([(chance.randrange(ins), chance.randrange(outs)) for turn in range(many)])
+        # Racks from the greatest number down.
+        found.append([(31 - i, 31 - j) for i, j in found[-1]])
+    return found
+
+
+def few_pairs(ins, outs, most):
+    """Every list of at most so many pairs of so many racks."""
+    every = list(itertools.product(range(ins), range(outs)))
+    return [list(pairs) for many in range(most + 1) for pairs in itertools.product(every, repeat=many)]
+
+
+def weights_by_hand(pairs):
+    """A dict of the weights of all racks that some pair has, by tuples (side, rack)."""
+    return collections.Counter((side, pair[side]) for pair in pairs for side in (0, 1))
+
+
+def check_list_is_new(case, tell, *things):
+    """A list that is told, changed by the asker, changes neither what was handed in nor what is told later."""
+    before = copy.deepcopy(things)
+    told = tell(*things)
+    wanted = list(told)
+    told.append(99)
+    case.assertEqual(tell(*things), wanted)
+    told.clear()
+    case.assertEqual(tell(*things), wanted)
+    case.assertEqual(things, before)

@@ -7,7 +7,8 @@ from crossracks.calling import call_of, ended, holder_of, joined
 from crossracks.errors import Busy, Engaged, Idle, NoLine
 from crossracks.rules import Emptiest, Fullest, Round, Rule, Told, rule_of
 from samples import (
-    HALLS, STRANGE, Alike, held_lines_of, lines_of, many_asks, many_right_calls, right_lists, shuts_of, ways_by_hand)
+    HALLS, STRANGE, Alike, held_lines_of, is_idle, lines_of, many_asks, many_right_calls, right_lists, shuts_of,
+    ways_by_hand)
 
 HALL = (2, 3, 4, 5, 2)
 CALLS = [(0, (0, 1), 3), (1, (2, 4, 9), 0), (4, (5, 6), 3), (5, (3,), 1)]
@@ -43,10 +44,6 @@ def refusal(kind, *things, **others):
         assert type(error) is kind and before == (things[1], things[3])
         return error
     raise AssertionError(f"not refused with {kind.__name__}: {things}")
-
-
-def is_idle(calls, caller, ends):
-    return all(call[0] != caller and not set(call[1]) & set(ends) for call in calls)
 
 
 class CallOf(unittest.TestCase):  # 3.3

@@ -5,7 +5,7 @@ import unittest
 
 from crossracks.chains import chain_in, chain_out, moved, moves_of
 from crossracks.errors import NoMove
-from samples import HALLS, held_lines_of, many_right_calls, narrow_calls
+from samples import HALLS, chain_by_hand, held_lines_of, is_right_by_hand, many_right_calls, narrow_calls
 
 # Four in racks of two callers, four out racks of two ends, three racks amid.
 HALL = (4, 2, 3, 4, 2)
@@ -13,34 +13,6 @@ HALL = (4, 2, 3, 4, 2)
 CALLS = [(0, (0,), 0), (1, (2,), 1), (2, (3,), 0), (3, (4,), 1), (4, (5,), 0), (6, (6, 7), 1)]
 # The two racks amid bear a ring: in racks 0 and 1, out racks 0 and 1.
 RING = [(0, (0,), 0), (1, (2,), 1), (2, (3,), 0), (3, (1,), 1)]
-
-
-def holder_by_hand(hall, calls, line):
-    """The call that holds a line, ("in", i, k) or ("out", k, j), or None."""
-    for caller, ends, k in calls:
-        if line == ("in", caller // hall[1], k) or line in [("out", k, end // hall[4]) for end in ends]:
-            return (caller, ends, k)
-    return None
-
-
-def chain_by_hand(hall, calls, at_out, rack, a, b):
-    found = []
-    while True:
-        call = holder_by_hand(hall, calls, ("out", a, rack) if at_out else ("in", rack, b))
-        if call is None or call[0] in found:
-            return found
-        goals = {end // hall[4] for end in call[1]}
-        if len(goals) > 1:
-            return None
-        found.append(call[0])
-        rack = call[0] // hall[1] if at_out else min(goals)
-        at_out = not at_out
-
-
-def is_right_by_hand(hall, calls):
-    lines = held_lines_of(hall, calls)
-    ends = [end for call in calls for end in call[1]]
-    return len(lines) == len(set(lines)) and len(ends) == len(set(ends))
 
 
 class ChainOut(unittest.TestCase):  # 4.1

@@ -36,6 +36,18 @@ SIGNATURES = {
         "chain_out": "(hall, calls, rack, a, b)", "chain_in": "(hall, calls, rack, a, b)",
         "moves_of": "(calls, chain, a, b)", "moved": "(hall, calls, moves)",
     },
+    "turning": {
+        "room": "(hall, calls, caller, ends, shut=0)", "joined_turning": "(hall, calls, caller, ends, shut=0)",
+    },
+    "weights": {
+        "weight": "(pairs, side, rack)", "greatest_weight": "(pairs)",
+    },
+    "halves": {
+        "halves": "(pairs)",
+    },
+    "partings": {
+        "touching": "(pairs)", "parted": "(pairs, ways)",
+    },
 }
 # The methods of classes, as they stand behind the object itself.
 METHODS = {
