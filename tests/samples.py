@@ -242,3 +242,144 @@ def check_list_is_new(case, tell, *things):
     told.clear()
     case.assertEqual(tell(*things), wanted)
     case.assertEqual(things, before)
+
+
+def check_lists_are_new(case, tell, *things):
+    """As check_list_is_new, of every list within what is told, and of two answers told at once."""
+    before = copy.deepcopy(things)
+    told = tell(*things)
+    wanted = copy.deepcopy(told)
+    other = tell(*things)
+    for spoilt in lists_within(told):
+        spoilt.append(99)
+        spoilt.reverse()
+        case.assertEqual(other, wanted)
+        case.assertEqual(tell(*things), wanted)
+    for spoilt in lists_within(told):
+        spoilt.clear()
+    case.assertEqual(other, wanted)
+    case.assertEqual(tell(*things), wanted)
+    case.assertEqual(things, before)
+
+
+def lists_within(thing):
+    """All lists that a thing of lists and tuples holds, itself too."""
+    if not isinstance(thing, (list, tuple)):
+        return []
+    inner = [one for part in thing for one in lists_within(part)]
+    return inner + [thing] if isinstance(thing, list) else inner
+
+
+def deep_list(many):
+    """A list within a list, so many times."""
+    deep = []
+    for turn in range(many):
+        deep = [deep]
+    return deep
+
+
+def wrong_entries(firsts, seconds):
+    """Things of any kind that are no tuple of a number below firsts and a number below seconds."""
+    wrong_numbers = [-1, -10 ** 3000, 10 ** 3000] + [
+        None, True, False, "", "0", "1", 0.0, 1.0, float("nan"), 0j, b"0", [], [0], {}, {0: 0}, (), (0,), set(),
+        frozenset(), range(1), Stranger(), Alike(), int, len, Ellipsis, deep_list(3000)]
+    found = list(STRANGE) + [Alike(), deep_list(3000), 0, 1, -1, [0, 0], ["0", "0"], "00", {0: 0, 1: 1}, range(2)]
+    found += [(0, 0, 0), (0, 0, None), (0,), (None, None), ((0, 0), (0, 0)), ((0, 0),), [(0, 0)]]
+    found += [(firsts, 0), (0, seconds), (firsts, seconds), (firsts + 1, 0), (0, seconds + 1), (-1, -1)]
+    found += [(firsts, seconds - 1), (firsts - 1, seconds)]
+    for wrong in wrong_numbers:
+        found += [(wrong, 0), (0, wrong), (wrong, seconds - 1), (firsts - 1, wrong)]
+    return found
+
+
+def wrong_place_by_hand(things, firsts, seconds):
+    """The place of the first entry that is none or has a number of an entry ahead on the same side, or None."""
+    for place, thing in enumerate(things):
+        if type(thing) is not tuple or len(thing) != 2 or {type(thing[0]), type(thing[1])} != {int}:
+            return place
+        if not 0 <= thing[0] < firsts or not 0 <= thing[1] < seconds:
+            return place
+        if any(thing[0] == ahead[0] or thing[1] == ahead[1] for ahead in things[:place]):
+            return place
+    return None
+
+
+def right_entries(firsts, seconds, many, seed):
+    """A list of tuples of two numbers, each number once on its side, in any order."""
+    chance = random.Random(f"entries {firsts} {seconds} {many} {seed}")
+    many = min(many, firsts, seconds)
+    return list(zip(chance.sample(range(firsts), many), chance.sample(range(seconds), many)))
+
+
+def every_entries(firsts, seconds):
+    """All sorted lists of such tuples."""
+    return [list(zip(ones, others)) for many in range(min(firsts, seconds) + 1)
+            for ones in itertools.combinations(range(firsts), many)
+            for others in itertools.permutations(range(seconds), many)]
+
+
+def spoilt_entries(firsts, seconds):
+    """Lists of entries of which one or some are wrong, at every place."""
+    found = [[wrong] for wrong in wrong_entries(firsts, seconds)]
+    right = right_entries(firsts, seconds, 6, "spoilt")
+    for wrong in wrong_entries(firsts, seconds):
+        found += [right[:place] + [wrong] + right[place:] for place in range(len(right) + 1)]
+    for place, entry in enumerate(right):
+        for later in range(place + 1, len(right) + 1):
+            # The same entry once more, or its first or its second number alone.
+            found.append(right[:later] + [entry] + right[later:])
+            for other in right[later:]:
+                found.append(right[:later] + [(entry[0], other[1])] + right[later:])
+                found.append(right[:later] + [(other[0], entry[1])] + right[later:])
+    for seed in range(200):
+        chance = random.Random(f"spoilt {firsts} {seconds} {seed}")
+        found.append([(chance.randrange(firsts), chance.randrange(seconds)) for turn in range(firsts + 1)])
+    return found
+
+
+def nest_bars(nest, where=()):
+    """All bars of a nest, each as a tuple that tells where it is; walked by the form that 6.2 tells."""
+    if nest[0] == "rack":
+        return [where + ("rack", bar) for bar in nest[2]]
+    firsts, amids, lasts = nest[3:]
+    found = [where + ("first", i, bar) for i, bars in enumerate(firsts) for bar in bars]
+    found += [where + ("last", j, bar) for j, bars in enumerate(lasts) for bar in bars]
+    return found + [bar for k, amid in enumerate(amids) for bar in nest_bars(amid, where + (k,))]
+
+
+def nest_walk(nest, line, where=()):
+    """A tuple (line out, bars) of a line in, gone bar by bar as 6.3 tells it; (None, []) where it has no bar."""
+    if nest[0] == "rack":
+        found = [bar for bar in nest[2] if bar[0] == line]
+        return (found[0][1], [where + ("rack", found[0])]) if found else (None, [])
+    small, firsts, amids, lasts = nest[2:]
+    begin = [bar for bar in firsts[line // small] if bar[0] == line % small]
+    if not begin:
+        return (None, [])
+    k = begin[0][1]
+    j, bars = nest_walk(amids[k], line // small, where + (k,))
+    (finish,) = [bar for bar in lasts[j] if bar[0] == k]
+    ends = [where + ("first", line // small, begin[0]), where + ("last", j, finish)]
+    return (j * small + finish[1], ends + bars)
+
+
+def nest_sizes(lines, small, depth):
+    """The lines of the nests at each depth, from the outermost on, as 6.2 tells them."""
+    sizes = [lines]
+    while depth > 0 and sizes[-1] > small:
+        sizes.append(-(-sizes[-1] // small))
+        depth -= 1
+    return sizes
+
+
+def many_turns():
+    """Tuples (lines, small, turns): without turns, some, all; lines that small divides and that it does not."""
+    found = []
+    for lines, small in [(1, 2), (2, 2), (3, 2), (4, 2), (5, 2), (7, 3), (8, 8), (9, 8), (9, 3), (10, 4), (16, 2),
+                         (17, 2), (23, 5), (27, 3), (33, 2), (36, 6), (49, 7), (50, 7), (63, 4), (64, 2), (64, 3),
+                         (64, 4), (64, 8)]:
+        found += [(lines, small, []), (lines, small, [(lines - 1, 0)]), (lines, small, [(0, lines - 1)])]
+        found += [(lines, small, [(line, line) for line in range(lines)])]
+        found += [(lines, small, [(line, lines - 1 - line) for line in range(lines)][::-1])]
+        found += [(lines, small, right_entries(lines, lines, many, many)) for many in (lines // 2, lines - 1, lines)]
+    return found

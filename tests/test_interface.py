@@ -48,6 +48,23 @@ SIGNATURES = {
     "partings": {
         "touching": "(pairs)", "parted": "(pairs, ways)",
     },
+    "tables": {
+        "pairs_of": "(hall, table)", "open_racks": "(hall, shut=0)", "at_once": "(hall, table, shut=0)",
+    },
+    "nests": {
+        "nest_of": "(lines, small, turns, depth=6)", "amid_nest": "(hall, calls, k, small, depth=6)",
+    },
+    "paths": {
+        "went_to": "(nest, line)", "came_from": "(nest, line)", "turns_of": "(nest)", "closed_bars": "(nest)",
+        "crossings": "(lines, small, depth=6)",
+    },
+    "numbers": {
+        "book_of": "(hall, rows)", "Finder": "(book)",
+    },
+    "pickers": {
+        "Picker": "(group)", "RoundPicker": "(group)", "RestedPicker": "(group)", "picker_of": "(kind, group)",
+        "hunted": "(picker, way)",
+    },
 }
 # The methods of classes, as they stand behind the object itself.
 METHODS = {
@@ -55,6 +72,14 @@ METHODS = {
         "Rule": {"choose": "(self, hall, calls, free)"}, "Fullest": {"choose": "(self, hall, calls, free)"},
         "Emptiest": {"choose": "(self, hall, calls, free)"}, "Round": {"choose": "(self, hall, calls, free)"},
         "Told": {"choose": "(self, hall, calls, free)"},
+    },
+    "numbers": {
+        "Finder": {"turn": "(self, figure)", "numbers": "(self)", "group": "(self)"},
+    },
+    "pickers": {
+        "Picker": {"order": "(self)", "took": "(self, end)"},
+        "RoundPicker": {"order": "(self)", "took": "(self, end)"},
+        "RestedPicker": {"order": "(self)", "took": "(self, end)"},
     },
 }
 

@@ -227,8 +227,24 @@ class Trees(unittest.TestCase):
                 if isinstance(node, ast.Name) and node.id in classes:
                     fine = isinstance(parent, (ast.ClassDef, ast.ExceptHandler))
                     fine = fine or isinstance(parent, ast.Call) and node is parent.func
+                    # A base's own making (L28).
+                    fine = fine or isinstance(parent, ast.Attribute) and parent.attr == "__init__"
                     fine = fine or called_name(parent) == "isinstance" and node is parent.args[1]
                     self.assertTrue(fine, f"{name}:{node.lineno}")
+
+    def test_methods_with_two_underscores(self):  # L28
+        for where, node in nodes(ast.ClassDef):
+            for child in node.body:
+                if getattr(child, "name", "").startswith("__"):
+                    self.assertEqual(child.name, "__init__", where)
+                    self.assertEqual([one for one in ast.walk(child) if isinstance(one, ast.Return)], [], where)
+        for where, node in nodes(ast.Call):
+            if getattr(node.func, "attr", "") == "__init__":
+                self.assertEqual(node.args[0].id, "self", where)
+
+    def test_lambdas_on_one_line(self):  # L13
+        rows = [where for where, node in nodes(ast.Lambda)]
+        self.assertEqual(len(rows), len(set(rows)))
 
     def test_keywords(self):  # L22
         allowed = {"sorted": {"key", "reverse"}, "min": {"key", "default"}, "max": {"key", "default"},
